@@ -119,19 +119,15 @@ func TestOfAllSmallAreas(t *testing.T) {
 			holdAgainst(t, from, to)
 			for _, a := range all {
 				holdAgainst(t, from, to, a)
-			}
-		}
-	}
-	for _, area := range [][2]int{{0, 5}, {1, 6}, {2, 4}, {3, 3}, {4, 3}, {-1, 4}} {
-		for _, a := range all {
-			for _, b := range all {
-				holdAgainst(t, area[0], area[1], a, b)
+				for _, b := range all {
+					holdAgainst(t, from, to, a, b)
+				}
 			}
 		}
 	}
 }
 
-// P5.1, P5.2, P5.3: of three extents in each order.
+// P5.1, P5.2, P5.3: of one area, with three extents in each order.
 func TestOfThree(t *testing.T) {
 	all := extents(6, 3)
 	for _, a := range all {
